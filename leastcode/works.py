@@ -51,15 +51,27 @@ class Let:
         self._name = name
         self._value = value
 
+    # Errors assign attributes called name and value, which may only be where each such property has a setter;
+    # so a Let has setters, and they refuse.
     @property
     def name(self):
         """The made name."""
         return self._name
 
+    @name.setter
+    def name(self, value):
+        """Refuse: lines never change."""
+        raise AttributeError("lines never change")
+
     @property
     def value(self):
         """The sum."""
         return self._value
+
+    @value.setter
+    def value(self, value):
+        """Refuse: lines never change."""
+        raise AttributeError("lines never change")
 
     @property
     def uses(self):

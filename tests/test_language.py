@@ -11,7 +11,7 @@ SOURCES = {path.stem: path.read_text(encoding="utf-8") for path in sorted(PACKAG
 TREES = {name: ast.parse(text) for name, text in SOURCES.items()}
 
 BUILTINS = """len range enumerate zip min max sum abs sorted reversed int str bool list tuple dict set isinstance ord
-    repr any all divmod map property classmethod ValueError""".split()
+    repr any all divmod map property classmethod ValueError TypeError AttributeError""".split()
 METHODS = """append clear copy count endswith extend find get index insert isalnum isalpha isdigit islower isspace
     isupper items join keys ljust lower lstrip partition pop remove replace reverse rfind rjust rpartition rsplit
     rstrip setdefault split splitlines startswith strip update upper values zfill bit_length""".split()
@@ -24,6 +24,33 @@ NOT_ALLOWED = (ast.Global, ast.AsyncFunctionDef, ast.Await, ast.AsyncFor, ast.As
 def nodes(kinds):
     """All nodes of these kinds, with the names of their files."""
     return [(name, node) for name, tree in TREES.items() for node in ast.walk(tree) if isinstance(node, kinds)]
+
+
+def decorated(node, kind):
+    """Whether a function stands under a decorator with this text."""
+    return kind in [ast.unparse(part) for part in node.decorator_list]
+
+
+def methods(node):
+    """The functions in the body of a class."""
+    return [part for part in node.body if isinstance(part, ast.FunctionDef)]
+
+
+def classes():
+    """All classes of the package: the node, the names of its properties, of those with setters, and of its methods."""
+    found = []
+    for _, node in nodes(ast.ClassDef):
+        properties = {part.name for part in methods(node) if decorated(part, "property")}
+        setters = {part.name for part in methods(node) if decorated(part, f"{part.name}.setter")}
+        plain = {part.name for part in methods(node)} - properties
+        found.append((node, properties, setters, plain))
+    return found
+
+
+def assigned_attributes(tree):
+    """The names of the attributes that are assigned there."""
+    return {node.attr for node in ast.walk(tree) if isinstance(node, ast.Attribute)
+            and not isinstance(node.ctx, ast.Load)}
 
 
 def bound_names(tree):
@@ -139,6 +166,50 @@ class Names(unittest.TestCase):
         for name, node in nodes(ast.FunctionDef):
             if node.name.startswith("__"):
                 self.assertIn(node.name, OPERATORS, name)
+
+
+class Classes(unittest.TestCase):
+    def test_assigned_properties_have_setters_everywhere(self):
+        assigned = set().union(*[assigned_attributes(tree) for tree in TREES.values()])
+        for node, properties, setters, _ in classes():
+            self.assertLessEqual(properties & assigned, setters, node.name)
+
+    def test_properties_are_no_methods(self):
+        found = classes()
+        every = set().union(*[properties for _, properties, _, _ in found])
+        for node, _, _, plain in found:
+            self.assertFalse(every & plain, node.name)
+
+    def test_methods_are_no_attributes(self):
+        for node, _, _, plain in classes():
+            self.assertFalse(plain & assigned_attributes(node), node.name)
+
+    def test_attributes_that_are_read_are_there(self):
+        there = set().union(*[assigned_attributes(tree) for tree in TREES.values()], METHODS)
+        for _, properties, _, plain in classes():
+            there |= properties | plain
+        for name, node in nodes(ast.Attribute):
+            if node.attr != "setter":
+                self.assertIn(node.attr, there, name)
+
+    def test_no_method_is_read_off_a_class(self):
+        names = {node.name: {part.name for part in methods(node) if decorated(part, "classmethod")}
+                 for node, _, _, _ in classes()}
+        for name, node in nodes(ast.Attribute):
+            if isinstance(node.value, ast.Name) and node.value.id in names:
+                self.assertIn(node.attr, names[node.value.id], name)
+
+    def test_what_has_indexes_refuses_to_be_iterated_over(self):
+        for node, _, _, plain in classes():
+            if "__getitem__" in plain:
+                row = [part for part in methods(node) if part.name == "__iter__"][0].body
+                self.assertEqual(len(row), 1)
+                self.assertRegex(ast.unparse(row[0]), r"^raise TypeError\('")
+
+    def test_no_properties_in_errors(self):
+        for name, node in nodes(ast.ClassDef):
+            if name == "errors":
+                self.assertFalse([part for part in methods(node) if part.decorator_list])
 
 
 class Code(unittest.TestCase):

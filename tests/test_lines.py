@@ -82,6 +82,28 @@ class Lets(unittest.TestCase):
             self.assertIs(other != line, True)
 
 
+class NeverChanged(unittest.TestCase):
+    def test_parts_are_not_assigned(self):
+        value = Sum((1, ("a",)))
+        for line, names in ((Tell("a", "b"), ("names", "uses", "makes")), (Let("x", value), ("name", "value", "uses", "makes"))):
+            text = str(line)
+            for name in names:
+                before = getattr(line, name)
+                for other in ("b", ("b",), Sum((2, ())), before):
+                    with self.assertRaises(AttributeError):
+                        setattr(line, name, other)
+                self.assertIs(getattr(line, name), before)
+            self.assertEqual(str(line), text)
+
+    def test_errors_keep_attributes_of_the_same_names(self):
+        line = Let("x", Sum((1, ("a",))))
+        for error in (BadName("x"), BadSum(None), Twice("x"), BadWork(line)):
+            for name in vars(error):
+                setattr(error, name, line)
+                self.assertIs(getattr(error, name), line)
+        self.assertEqual((line.name, str(line.value)), ("x", "a"))
+
+
 class Interface(unittest.TestCase):
     def test_names_stand_in_the_classes(self):
         for made, names in ((Tell, ("uses", "makes", "names")), (Let, ("uses", "makes", "name", "value"))):

@@ -4,6 +4,8 @@ from leastcode.errors import BadName, Twice
 
 LETTERS = "abcdefghijklmnopqrstuvwxyz"
 DIGITS = "0123456789"
+BLOCK_DIGITS = 64
+BLOCK = 10 ** 64
 MOST_LETTERS = 6
 MOST_PRICE = 9
 
@@ -41,6 +43,20 @@ def is_decimal(word, most):
     if not 1 <= len(word) <= most or not all([digit in DIGITS for digit in word]):
         return False
     return word == "0" or word[0] != "0"
+
+
+def decimal(number):
+    """An integer in decimal digits, with a - if it is below 0."""
+    # Python refuses to write numbers of very many digits, so they are written block by block.
+    left = abs(number)
+    blocks = []
+    while left >= BLOCK:
+        left, low = divmod(left, BLOCK)
+        blocks.append(str(low).zfill(BLOCK_DIGITS))
+    blocks.append(str(left))
+    if number < 0:
+        blocks.append("-")
+    return "".join(blocks[::-1])
 
 
 def check_names(values):

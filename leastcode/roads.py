@@ -1,0 +1,143 @@
+"""Roads: the places along some lines, and how numbers for the standings there follow from one another."""
+
+from leastcode.grounds import FAR, Ground, settle
+from leastcode.needed import needed_at_head, needed_rows
+from leastcode.standings import behind_line, of_names
+
+
+class Road:
+    """The grounds of the places along some lines, and where each line leads from each standing, by index or None."""
+
+    def __init__(self, grounds, leads):
+        self.grounds = grounds
+        self.leads = leads
+
+
+class Roads:
+    """The roads of a task. Places where the same names are needed have the same ground."""
+
+    def __init__(self, task):
+        self.task = task
+        self._made = {}
+
+    def along(self, lines, later):
+        """The road along some lines, behind which these names are needed."""
+        grounds = [self._ground(names) for names in needed_rows(lines, later)]
+        slots = self.task.slots
+        leads = [line_leads(line, grounds[at], grounds[at + 1], slots) for at, line in enumerate(lines)]
+        return Road(grounds, leads)
+
+    def _ground(self, names):
+        """The ground where these names are needed."""
+        if names not in self._made:
+            self._made[names] = Ground(self.task, names)
+        return self._made[names]
+
+    def head(self):
+        """The ground at the head of a round, with this round to come."""
+        return self._ground(needed_at_head(self.task.work))
+
+    def without_rounds(self):
+        """The road of the straight form without rounds."""
+        work = self.task.work
+        return self.along(work.ahead + work.behind, work.results)
+
+    def before_rounds(self):
+        """The road along the lines ahead, with a round to come."""
+        work = self.task.work
+        return self.along(work.ahead, needed_at_head(work))
+
+    def through_round(self):
+        """The road through a round that another one follows."""
+        work = self.task.work
+        return self.along(work.loop, needed_at_head(work))
+
+    def through_last(self):
+        """The road through the last round and along the lines behind."""
+        work = self.task.work
+        return self.along(work.loop + work.behind, work.results)
+
+
+def line_leads(line, ground, behind, slots):
+    """For each standing of a ground where the line leads, an index of the ground behind it, or None."""
+    found = []
+    for standing in ground.standings:
+        to = behind_line(line, standing, slots)
+        found.append(None if to is None else behind.spots[of_names(to, behind.wanted)])
+    return found
+
+
+def start_numbers(ground, given):
+    """The numbers at the beginning, ahead of all moves: nothing in slots, the given names stored."""
+    numbers = [FAR] * len(ground.standings)
+    numbers[ground.spots[((), tuple([name for name in given if name in ground.wanted]))]] = 0
+    return numbers
+
+
+def end_numbers(ground, results):
+    """The numbers at the end, behind all moves: all results stored."""
+    return [0 if is_end(standing, results) else FAR for standing in ground.standings]
+
+
+def is_end(standing, results):
+    """Whether all results are stored."""
+    return all([name in standing[1] for name in results])
+
+
+def carried(numbers, leads, ground):
+    """The numbers that a line brings to the ground behind it, and for each the index it comes from, or None."""
+    found = [FAR] * len(ground.standings)
+    sources = [None] * len(found)
+    for at, to in enumerate(leads):
+        if to is not None and numbers[at] < found[to]:
+            found[to] = numbers[at]
+            sources[to] = at
+    return found, sources
+
+
+def brought_back(numbers, leads):
+    """The numbers ahead of a line, from those behind it."""
+    return [FAR if to is None else numbers[to] for to in leads]
+
+
+def settle_all(numbers, ground):
+    """Lower the numbers by moves, and where a standing is had with a better one."""
+    settle(numbers, ground.edges)
+    settle(numbers, ground.drops)
+
+
+def forward(road, numbers):
+    """The settled numbers at the end of a road, from those at its beginning."""
+    for at, leads in enumerate(road.leads):
+        ground = road.grounds[at + 1]
+        numbers, _ = carried(numbers, leads, ground)
+        settle_all(numbers, ground)
+    return numbers
+
+
+def from_start(road, given):
+    """The settled numbers at the end of a road that begins where the work does."""
+    numbers = start_numbers(road.grounds[0], given)
+    settle_all(numbers, road.grounds[0])
+    return forward(road, numbers)
+
+
+def back(road, numbers):
+    """The settled numbers to go at the beginning of a road, from those at its end."""
+    for at in range(len(road.leads) - 1, -1, -1):
+        numbers = brought_back(numbers, road.leads[at])
+        settle(numbers, road.grounds[at].edges_back)
+    return numbers
+
+
+def from_end(road, results):
+    """The settled numbers to go at the beginning of a road that ends where the work does."""
+    numbers = end_numbers(road.grounds[-1], results)
+    settle(numbers, road.grounds[-1].edges_back)
+    return back(road, numbers)
+
+
+def least_end(road, numbers, results):
+    """The least of the numbers at the end of a road at which all results are stored."""
+    standings = road.grounds[-1].standings
+    return min([number for number, standing in zip(numbers, standings) if is_end(standing, results)])

@@ -14,7 +14,7 @@ NO_NUMBERS = [-1, -10 ** 59, True, False, None, "1", "", (), [1], {}, Work([], [
 
 
 class AgainstAPlainSearch(unittest.TestCase):
-    def check(self, task, most=3):
+    def check(self, task, most=4):
         for n in range(most + 1):
             check_same(self, least_price(task, n), plain_price(task, n))
 

@@ -2,6 +2,7 @@
 
 from leastcode.errors import BadInput, BadNumber, TooMany
 from leastcode.kinds import is_from, is_within
+from leastcode.powers import do_rounds
 
 MOST_ROUNDS = 2000
 
@@ -19,7 +20,7 @@ def outcome(work, inputs, n):
         values[name] = inputs[name]
     told = do_lines(work.ahead, values, modulus)
     if work.is_flat:
-        values = values_behind(work.loop, values, n, modulus)
+        do_rounds(flat_steps(work.loop), values, n, modulus)
     else:
         for _ in range(n):
             told.extend(do_lines(work.loop, values, modulus))
@@ -58,46 +59,10 @@ def do_lines(lines, values, modulus):
     return told
 
 
-def values_behind(lines, values, n, modulus):
-    """The values of the names behind n rounds of lines with flat sums."""
-    names = sorted(values)
-    column = [*[values[name] for name in names], 1]
-    column = done_often(round_rows(lines, names, modulus), column, n, modulus)
-    return {name: column[at] for at, name in enumerate(names)}
-
-
-def round_rows(lines, names, modulus):
-    """What one round does: for each name, and then for 1, the factors of all of them in its new value."""
-    many = len(names) + 1
-    spots = {name: at for at, name in enumerate(names)}
-    rows = [[1 if to == at else 0 for to in range(many)] for at in range(many)]
+def flat_steps(lines):
+    """The steps of lines with flat sums, as leastcode/powers.py takes them."""
+    found = []
     for line in lines:
-        row = [0] * many
-        for factor, used in line.value.terms:
-            old = rows[spots[used[0]]] if used else rows[-1]
-            row = [(left + factor * right) % modulus for left, right in zip(row, old)]
-        rows[spots[line.makes]] = row
-    return rows
-
-
-def done_often(rows, column, n, modulus):
-    """The column behind n rounds, each of which does what the rows tell."""
-    left = n
-    while left > 0:
-        if left & 1:
-            column = [row_total(row, column, modulus) for row in rows]
-        left = left >> 1
-        if left > 0:
-            rows = squared(rows, modulus)
-    return column
-
-
-def row_total(row, column, modulus):
-    """The sum of the products of a row and a column."""
-    return sum([factor * value for factor, value in zip(row, column)]) % modulus
-
-
-def squared(rows, modulus):
-    """What two rounds do, if one does what the rows tell."""
-    columns = [[row[at] for row in rows] for at in range(len(rows))]
-    return [[row_total(row, column, modulus) for column in columns] for row in rows]
+        terms = [(factor, names[0] if names else None) for factor, names in line.value.terms]
+        found.append((line.makes, terms))
+    return found

@@ -48,46 +48,26 @@ class Let:
             raise BadName(name)
         if not isinstance(value, Sum):
             raise BadSum(None)
-        self._name = name
-        self._value = value
-
-    # Errors assign attributes called name and value, which may only be where each such property has a setter;
-    # so a Let has setters, and they refuse.
-    @property
-    def name(self):
-        """The made name."""
-        return self._name
-
-    @name.setter
-    def name(self, value):
-        """Refuse: lines never change."""
-        raise AttributeError("lines never change")
-
-    @property
-    def value(self):
-        """The sum."""
-        return self._value
-
-    @value.setter
-    def value(self, value):
-        """Refuse: lines never change."""
-        raise AttributeError("lines never change")
+        # These are plain attributes, not properties: errors assign attributes of these names, too, and where one is
+        # a property with a setter, an operator that makes an error would run that setter.
+        self.name = name
+        self.value = value
 
     @property
     def uses(self):
         """The used names, in the order in which they first stand in the sum."""
-        return self._value.names
+        return self.value.names
 
     @property
     def makes(self):
         """The made name."""
-        return self._name
+        return self.name
 
     def __eq__(self, other):
-        return isinstance(other, Let) and self._name == other._name and self._value == other._value
+        return isinstance(other, Let) and self.name == other.name and self.value == other.value
 
     def __str__(self):
-        return f"{self._name} = {self._value}"
+        return f"{self.name} = {self.value}"
 
 
 def check_lines(lines):

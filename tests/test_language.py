@@ -10,12 +10,17 @@ PACKAGE = Path(__file__).resolve().parent.parent / "leastcode"
 SOURCES = {path.stem: path.read_text(encoding="utf-8") for path in sorted(PACKAGE.glob("*.py"))}
 TREES = {name: ast.parse(text) for name, text in SOURCES.items()}
 
+PLACES = {id(node): (name, node.lineno) for name, tree in TREES.items() for node in ast.walk(tree)
+          if isinstance(node, ast.FunctionDef)}
+
 BUILTINS = """len range enumerate zip min max sum abs sorted reversed int str bool list tuple dict set isinstance ord
     repr any all divmod map property classmethod ValueError TypeError AttributeError""".split()
 METHODS = """append clear copy count endswith extend find get index insert isalnum isalpha isdigit islower isspace
     isupper items join keys ljust lower lstrip partition pop remove replace reverse rfind rjust rpartition rsplit
     rstrip setdefault split splitlines startswith strip update upper values zfill bit_length""".split()
+UNCHANGING = "__eq__ __str__ __repr__ __len__ __getitem__ __pow__ __iter__".split()
 OPERATORS = """__init__ __eq__ __str__ __len__ __iter__ __pow__ __getitem__""".split()
+CHANGING = "append clear extend insert pop remove reverse setdefault update add discard sort".split()
 AT_ONCE = ("any", "all", "min", "max", "sum", "sorted")
 NOT_ALLOWED = (ast.Global, ast.AsyncFunctionDef, ast.Await, ast.AsyncFor, ast.AsyncWith, ast.Import, ast.AnnAssign,
                ast.Div, ast.Set)
@@ -45,6 +50,99 @@ def classes():
         plain = {part.name for part in methods(node)} - properties
         found.append((node, properties, setters, plain))
     return found
+
+
+def bodies(tree):
+    """What a file defines: functions by their names, and for the name of each class its __init__."""
+    found = {node.name: node for node in tree.body if isinstance(node, ast.FunctionDef)}
+    for node in tree.body:
+        if isinstance(node, ast.ClassDef):
+            found.update({node.name: part for part in methods(node) if part.name == "__init__"})
+    return found
+
+
+def named_in(name):
+    """What the names of a file mean that are those of functions and classes: its own ones and the imported ones."""
+    found = bodies(TREES[name])
+    for node in imports(TREES[name]):
+        there = bodies(TREES[node.module.split(".")[1]])
+        found.update({alias.name: there[alias.name] for alias in node.names if alias.name in there})
+    return found
+
+
+def methods_by_name():
+    """All methods and properties of the package, by their names, with the names of their files."""
+    found = {}
+    for name, node in nodes(ast.ClassDef):
+        for part in methods(node):
+            found.setdefault(part.name, []).append(part)
+    return found
+
+
+def assigned_parts(node):
+    """The attributes and items that a function assigns or deletes."""
+    return [part for part in ast.walk(node) if isinstance(part, (ast.Attribute, ast.Subscript))
+            and not isinstance(part.ctx, ast.Load)]
+
+
+def reached_from():
+    """For each function, by its place (file, row), what it names and the methods whose names it reads, by places."""
+    by_name = methods_by_name()
+    found = {}
+    for name, tree in TREES.items():
+        named = named_in(name)
+        for node in ast.walk(tree):
+            if isinstance(node, ast.FunctionDef):
+                # Signs may stand for methods of these names.
+                reached = by_name["__eq__"] + by_name["__str__"]
+                for part in ast.walk(node):
+                    if isinstance(part, ast.Name) and part.id in named:
+                        reached.append(named[part.id])
+                    elif isinstance(part, ast.Attribute):
+                        reached += by_name.get(part.attr, [])
+                found[name, node.lineno] = {PLACES[id(other)] for other in reached}
+    return found
+
+
+def all_run_by(root, reached):
+    """The places of a function and of all that it may run."""
+    found = [root]
+    for place in found:
+        found += sorted(reached[place] - set(found))
+    return found
+
+
+def fresh_names(node):
+    """The local variables of a function that are only ever assigned what it creates: lists, dicts, copies."""
+    fresh, other = set(), {arg.arg for arg in ast.walk(node) if isinstance(arg, ast.arg)}
+    for part in ast.walk(node):
+        if isinstance(part, ast.Assign):
+            made = isinstance(part.value, (ast.List, ast.Dict, ast.ListComp, ast.DictComp))
+            text = ast.unparse(part.value)
+            made = made or re.match(r"(list|dict|set|sorted)\(|\[.*\] [*+] ", text)
+            for target in part.targets:
+                (fresh if made and isinstance(target, ast.Name) else other).update(
+                    name.id for name in ast.walk(target) if isinstance(name, ast.Name))
+        elif isinstance(part, (ast.For, ast.comprehension)):
+            other |= {name.id for name in ast.walk(part.target) if isinstance(name, ast.Name)}
+    return fresh - other
+
+
+def faults_of_change(node, setters):
+    """What a function changes that it did not create; the attributes that an __init__ gives its object are free."""
+    fresh, faults = fresh_names(node), []
+    for part in assigned_parts(node):
+        text = ast.unparse(part)
+        if isinstance(part, ast.Attribute):
+            if node.name != "__init__" or not re.fullmatch(r"self\.\w+", text) or part.attr in setters:
+                faults.append(text)
+        elif not (isinstance(part.value, ast.Name) and part.value.id in fresh):
+            faults.append(text)
+    for part in ast.walk(node):
+        if isinstance(part, ast.Call) and isinstance(part.func, ast.Attribute) and part.func.attr in CHANGING:
+            if not (isinstance(part.func.value, ast.Name) and part.func.value.id in fresh):
+                faults.append(ast.unparse(part))
+    return faults
 
 
 def assigned_attributes(tree):
@@ -173,6 +271,20 @@ class Classes(unittest.TestCase):
         assigned = set().union(*[assigned_attributes(tree) for tree in TREES.values()])
         for node, properties, setters, _ in classes():
             self.assertLessEqual(properties & assigned, setters, node.name)
+
+    def test_operators_and_properties_change_nothing(self):
+        reached = reached_from()
+        setters = set().union(*[setters for _, _, setters, _ in classes()])
+        faults = {PLACES[id(node)]: faults_of_change(node, setters) for _, node in nodes(ast.FunctionDef)}
+        for name, node in nodes(ast.FunctionDef):
+            if decorated(node, "property") or node.name in UNCHANGING:
+                for place in all_run_by(PLACES[id(node)], reached):
+                    self.assertEqual(faults[place], [], (name, node.name, place))
+
+    def test_no_property_has_the_name_of_an_attribute_of_an_error(self):
+        named = set().union(*[assigned_attributes(node) for name, node in nodes(ast.ClassDef) if name == "errors"])
+        for node, properties, _, _ in classes():
+            self.assertFalse(named & properties, node.name)
 
     def test_properties_are_no_methods(self):
         found = classes()

@@ -85,7 +85,7 @@ class Lets(unittest.TestCase):
 class NeverChanged(unittest.TestCase):
     def test_parts_are_not_assigned(self):
         value = Sum((1, ("a",)))
-        for line, names in ((Tell("a", "b"), ("names", "uses", "makes")), (Let("x", value), ("name", "value", "uses", "makes"))):
+        for line, names in ((Tell("a", "b"), ("names", "uses", "makes")), (Let("x", value), ("uses", "makes"))):
             text = str(line)
             for name in names:
                 before = getattr(line, name)
@@ -105,8 +105,14 @@ class NeverChanged(unittest.TestCase):
 
 
 class Interface(unittest.TestCase):
+    def test_name_and_value_can_be_read(self):
+        value = Sum((1, ("a",)))
+        line = Let(name="x", value=value)
+        self.assertEqual(line.name, "x")
+        self.assertIs(line.value, value)
+
     def test_names_stand_in_the_classes(self):
-        for made, names in ((Tell, ("uses", "makes", "names")), (Let, ("uses", "makes", "name", "value"))):
+        for made, names in ((Tell, ("uses", "makes", "names")), (Let, ("uses", "makes"))):
             self.assertEqual(made.__module__, "leastcode.works")
             for name in names:
                 self.assertIsInstance(vars(made)[name], property)

@@ -133,6 +133,28 @@ class ManyRounds(unittest.TestCase):
         for n in (0, 1, 2, 30, 2001, HUGE):
             check_same(self, outcome(work, inputs, n), plain_outcome(work, inputs, n))
 
+    def test_few_rounds_of_great_values(self):
+        lines = "; ".join(["a = 999999 * b - c + f", "b = 5 * d - e + 1 - a", "c = c + d", "d = -999999 * a + 2 * e",
+                           "e = f - 3 + a", "f = f + d + 1"])
+        for modulus in (2, 10 ** 18 - 1, 10 ** 18):
+            work = work_of(f"given a b c d e f; results a b c d e f; loop; {lines}; end", modulus)
+            inputs = dict(zip("abcdef", (0, 1, modulus - 1, modulus // 2, 1, modulus - 1)))
+            for n in range(40):
+                check_same(self, outcome(work, inputs, n), plain_outcome(work, inputs, n))
+
+    def test_one_round_more_far_out(self):
+        for seed in range(40):
+            rng = random.Random(seed)
+            modulus = rng.choice((2, 64, 97, 10 ** 9 + 7, 10 ** 18))
+            lines = [f"{rng.choice('abcdef')} = {rng.randint(-9, 9)} * {rng.choice('abcdef')} + {rng.choice('abcdef')}"
+                     for _ in range(rng.randint(1, 12))]
+            work = work_of("; ".join(["given a b c d e f; results a b c d e f; loop", *lines, "end"]), modulus)
+            inputs = drawn_inputs(rng, work)
+            for n in (20, 2001, 10 ** 59 + seed, 2 ** 200 - seed):
+                _, ends = outcome(work, inputs, n)
+                check_same(self, outcome(work, ends, 1), outcome(work, inputs, n + 1))
+                check_same(self, outcome(work, ends, n), outcome(work, inputs, 2 * n))
+
     def test_drawn_works(self):
         many = 0
         for seed in range(400):

@@ -146,7 +146,7 @@ class ManyRounds(unittest.TestCase):
         for seed in range(40):
             rng = random.Random(seed)
             modulus = rng.choice((2, 64, 97, 10 ** 9 + 7, 10 ** 18))
-            lines = [f"{rng.choice('abcdef')} = {rng.randint(-9, 9)} * {rng.choice('abcdef')} + {rng.choice('abcdef')}"
+            lines = [f"{rng.choice('abcdef')} = {rng.choice((-9, -1, 0, 2, 5))} * {rng.choice('abcdef')} + {rng.choice('abcdef')}"
                      for _ in range(rng.randint(1, 12))]
             work = work_of("; ".join(["given a b c d e f; results a b c d e f; loop", *lines, "end"]), modulus)
             inputs = drawn_inputs(rng, work)

@@ -18,11 +18,12 @@ def entries_so_far(ground, numbers, texts):
     """The table of entries, forward, of numbers that are settled by it; texts are those of the standings ahead."""
     led = settle(numbers, ground.edges)
     # Names that are stored too much are left only behind all moves, so that each move can be done on the way.
-    dropped = settle(numbers, ground.drops)
+    drops = ground.drops()
+    dropped = settle(numbers, drops)
     found = {}
-    for at, text in enumerate(ground.texts):
-        better, _ = walk(at, dropped, ground.drops, [None] * len(ground.drops))
-        spot, moves = walk(better, led, ground.edges, ground.moves)
+    for at, text in enumerate(ground.texts()):
+        better, _ = walk(at, dropped, drops, [None] * len(drops))
+        spot, moves = walk(better, led, ground.edges, ground.moves())
         found[text] = (numbers[at], texts[spot], tuple(moves[::-1]))
     return found
 
@@ -30,16 +31,18 @@ def entries_so_far(ground, numbers, texts):
 def entries_to_go(ground, numbers, texts):
     """The table of entries, to go, of numbers that are settled by it; texts are those of the standings behind."""
     led = settle(numbers, ground.edges_back)
+    moves_back = ground.moves()[::-1]
     found = {}
-    for at, text in enumerate(ground.texts):
-        spot, moves = walk(at, led, ground.edges_back, ground.moves_back)
+    for at, text in enumerate(ground.texts()):
+        spot, moves = walk(at, led, ground.edges_back, moves_back)
         found[text] = (numbers[at], tuple(moves), texts[spot])
     return found
 
 
 def texts_at(ground, spots):
     """The texts of the standings with these indexes, None for None."""
-    return [None if spot is None else ground.texts[spot] for spot in spots]
+    texts = ground.texts()
+    return [None if spot is None else texts[spot] for spot in spots]
 
 
 def first_entries(ground, given):

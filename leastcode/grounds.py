@@ -1,6 +1,6 @@
 """Grounds: the sound standings where certain names are needed, and the moves between them."""
 
-from leastcode.standings import moves_at, sound_standings, standing_text
+from leastcode.standings import sound_codes, texts_of
 
 # More than all numbers of tables: no way to a standing has been found yet.
 FAR = 10 ** 18
@@ -9,53 +9,67 @@ FAR = 10 ** 18
 class Ground:
     """The sound standings at the places where these names are needed, by index, and the moves between them.
 
-    An edge is (index from, index to, price). Each list of edges has the texts of its moves beside it.
+    An edge is (index from, index to, price); each move is a text, which has the index of its edge. Edges back are
+    turned round, for numbers to go.
     """
 
     def __init__(self, task, wanted):
         fixed = task.work.fixed
         self.wanted = wanted
-        self.standings = sound_standings(wanted, fixed, task.slots)
-        self.spots = {standing: at for at, standing in enumerate(self.standings)}
-        self.texts = [standing_text(standing) for standing in self.standings]
-        steps = self._steps(task, fixed)
-        self.edges = [(start, end, price) for start, end, price, _ in steps]
-        self.moves = [text for _, _, _, text in steps]
-        # What is still to come is known behind a move first, so these edges lead back, the last moves first.
-        self.edges_back = [(end, start, price) for start, end, price in self.edges[::-1]]
-        self.moves_back = self.moves[::-1]
-        self.drops = self._drops()
-
-    def _steps(self, task, fixed):
-        """The moves from sound standings to sound ones: index from, index to, price, text."""
-        prices = task.prices
+        self.codes = sound_codes(wanted, fixed, task.slots)
+        self.spots = {code: at for at, code in enumerate(self.codes)}
         # In this order most ways of several moves are found at one go over the edges.
-        found = {"store": [], "forget": [], "load": [], "again": []}
-        for start, standing in enumerate(self.standings):
-            for kind, name, behind in moves_at(standing, self.wanted, fixed, task.slots):
-                if behind in self.spots:
-                    price = price_of(kind, name, prices, fixed)
-                    found[kind].append((start, self.spots[behind], price, f"{kind} {name}"))
-        return [step for steps in found.values() for step in steps]
+        groups = {"store": [], "forget": [], "load": [], "again": []}
+        for at, name in enumerate(wanted):
+            again = fixed[name][1] if name in fixed else None
+            found = self._edges_of(1 << at, task.prices.load_of(name), task.prices.store, again)
+            for kind in groups:
+                groups[kind].append((f"{kind} {name}", found[kind]))
+        self._groups = [group for kind in groups for group in groups[kind]]
+        self.edges = [edge for _, edges in self._groups for edge in edges]
+        # What is still to come is known behind a move first, so the last moves come first here.
+        self.edges_back = [(end, start, price) for start, end, price in self.edges[::-1]]
+        self._moves = None
+        self._texts = None
+        self._drops = None
 
-    def _drops(self):
-        """Edges that cost nothing to the standings that have one stored name less: they are had with these ones."""
-        found = []
-        for start, (held, stored) in enumerate(self.standings):
-            for at in range(len(stored)):
-                less = (held, stored[:at] + stored[at + 1:])
-                if less in self.spots:
-                    found.append((start, self.spots[less], 0))
+    def _edges_of(self, held, load, store, again):
+        """The edges of the moves of the name with this bit, by their kinds; again is None if it is not fixed."""
+        stored = held << len(self.wanted)
+        spots = self.spots
+        there = [(at, code) for at, code in enumerate(self.codes) if code & held]
+        both = [(at, spots[code ^ held]) for at, code in there if code & stored]
+        found = {"store": [(at, spots[code | stored], store) for at, code in there if not code & stored],
+                 "load": [(less, at, load) for at, less in both], "again": []}
+        if again is not None:
+            # Without its slot the name is nowhere, and can be had again.
+            both = both + [(at, spots[code ^ held]) for at, code in there if not code & stored]
+            found["again"] = [(less, at, again) for at, less in both]
+        found["forget"] = [(at, less, 0) for at, less in both]
         return found
 
+    def moves(self):
+        """The texts of the moves of the edges."""
+        if self._moves is None:
+            self._moves = [text for text, edges in self._groups for _ in edges]
+        return self._moves
 
-def price_of(kind, name, prices, fixed):
-    """The price of a move."""
-    if kind == "load":
-        return prices.load_of(name)
-    if kind == "again":
-        return fixed[name][1]
-    return prices.store if kind == "store" else 0
+    def texts(self):
+        """The texts of the standings."""
+        if self._texts is None:
+            self._texts = texts_of(self.wanted, self.codes)
+        return self._texts
+
+    def drops(self):
+        """Edges that cost nothing to the standings that have one stored name less: they are had with these ones."""
+        if self._drops is None:
+            found = []
+            for at in range(len(self.wanted), 2 * len(self.wanted)):
+                stored = 1 << at
+                less = [(spot, code ^ stored) for spot, code in enumerate(self.codes) if code & stored]
+                found.extend([(spot, self.spots[code], 0) for spot, code in less if code in self.spots])
+            self._drops = found
+        return self._drops
 
 
 def settle(numbers, edges):

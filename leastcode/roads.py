@@ -2,7 +2,7 @@
 
 from leastcode.grounds import FAR, Ground, settle
 from leastcode.needed import needed_at_head, needed_rows
-from leastcode.standings import behind_line, of_names
+from leastcode.standings import code_of, codes_behind
 
 
 class Road:
@@ -60,33 +60,32 @@ class Roads:
 
 def line_leads(line, ground, behind, slots):
     """For each standing of a ground where the line leads, an index of the ground behind it, or None."""
-    found = []
-    for standing in ground.standings:
-        to = behind_line(line, standing, slots)
-        found.append(None if to is None else behind.spots[of_names(to, behind.wanted)])
-    return found
+    spots = behind.spots
+    codes = codes_behind(line, ground.codes, ground.wanted, behind.wanted, slots)
+    return [None if code is None else spots[code] for code in codes]
+
+
+def start_spot(ground, given):
+    """The index of the standing at the beginning, ahead of all moves: nothing in slots, the given names stored."""
+    return ground.spots[code_of(ground.wanted, (), given)]
 
 
 def start_numbers(ground, given):
-    """The numbers at the beginning, ahead of all moves: nothing in slots, the given names stored."""
-    numbers = [FAR] * len(ground.standings)
-    numbers[ground.spots[((), tuple([name for name in given if name in ground.wanted]))]] = 0
+    """The numbers at the beginning, ahead of all moves."""
+    numbers = [FAR] * len(ground.codes)
+    numbers[start_spot(ground, given)] = 0
     return numbers
 
 
 def end_numbers(ground, results):
     """The numbers at the end, behind all moves: all results stored."""
-    return [0 if is_end(standing, results) else FAR for standing in ground.standings]
-
-
-def is_end(standing, results):
-    """Whether all results are stored."""
-    return all([name in standing[1] for name in results])
+    stored = code_of(ground.wanted, (), results)
+    return [0 if code & stored == stored else FAR for code in ground.codes]
 
 
 def carried(numbers, leads, ground):
     """The numbers that a line brings to the ground behind it, and for each the index it comes from, or None."""
-    found = [FAR] * len(ground.standings)
+    found = [FAR] * len(ground.codes)
     sources = [None] * len(found)
     for at, to in enumerate(leads):
         if to is not None and numbers[at] < found[to]:
@@ -103,7 +102,7 @@ def brought_back(numbers, leads):
 def settle_all(numbers, ground):
     """Lower the numbers by moves, and where a standing is had with a better one."""
     settle(numbers, ground.edges)
-    settle(numbers, ground.drops)
+    settle(numbers, ground.drops())
 
 
 def forward(road, numbers):
@@ -139,5 +138,5 @@ def from_end(road, results):
 
 def least_end(road, numbers, results):
     """The least of the numbers at the end of a road at which all results are stored."""
-    standings = road.grounds[-1].standings
-    return min([number for number, standing in zip(numbers, standings) if is_end(standing, results)])
+    ends = end_numbers(road.grounds[-1], results)
+    return min([number for number, end in zip(numbers, ends) if end == 0])

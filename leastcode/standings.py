@@ -1,4 +1,4 @@
-"""Standings: pairs of the names that lie in slots and of those that lie in the store, ascending tuples."""
+"""Standings where certain names are needed, as codes: a bit for each name in a slot, then one for each stored name."""
 
 
 def names_text(names):
@@ -7,70 +7,89 @@ def names_text(names):
 
 
 def standing_text(standing):
-    """The text of a standing."""
+    """The text of a standing, a pair of the names in slots and of the stored ones."""
     held, stored = standing
     return f"{names_text(held)} / {names_text(stored)}"
 
 
-def sound_standings(names, fixed, slots):
-    """All sound standings where these names, ascending, are needed."""
-    found = [((), ())]
-    for name in names:
-        longer = []
-        for held, stored in found:
-            if name in fixed:
-                longer.append((held, stored))
-            longer.append((held, (*stored, name)))
-            if len(held) < slots:
-                longer.append(((*held, name), stored))
-                longer.append(((*held, name), (*stored, name)))
-        found = longer
+def bit_counts(many):
+    """For each number of so many bits how many of them are set."""
+    counts = [0]
+    for _ in range(many):
+        counts = counts + [count + 1 for count in counts]
+    return counts
+
+
+def sound_codes(names, fixed, slots):
+    """The codes of all sound standings where these names, ascending, are needed."""
+    many = len(names)
+    counts = bit_counts(many)
+    mask = (1 << many) - 1
+    found = [0]
+    for at, name in enumerate(names):
+        held = 1 << at
+        stored = held << many
+        room = [code for code in found if counts[code & mask] < slots]
+        nowhere = found if name in fixed else []
+        found = nowhere + [code | stored for code in found] + [code | held for code in room]
+        found = found + [code | held | stored for code in room]
     return found
 
 
-def with_name(names, name):
-    """The names and one more, ascending."""
-    return tuple(sorted([*names, name]))
-
-
-def without_name(names, name):
-    """The names but this one."""
-    return tuple([other for other in names if other != name])
-
-
-def of_names(standing, names):
-    """What a standing has of these names."""
-    held, stored = standing
-    return tuple([name for name in held if name in names]), tuple([name for name in stored if name in names])
-
-
-def moves_at(standing, names, fixed, slots):
-    """The moves of these names that can be done: what is done, the name, and the standing behind the move."""
-    held, stored = standing
-    found = []
-    for name in names:
+def code_of(names, held, stored):
+    """The code of the standing with these names in slots and these stored ones, as far as they are needed."""
+    code = 0
+    for at, name in enumerate(names):
         if name in held:
-            found.append(("forget", name, (without_name(held, name), stored)))
-            if name not in stored:
-                found.append(("store", name, (held, with_name(stored, name))))
-        elif len(held) < slots:
-            if name in stored:
-                found.append(("load", name, (with_name(held, name), stored)))
-            if name in fixed:
-                found.append(("again", name, (with_name(held, name), stored)))
+            code = code | 1 << at
+        if name in stored:
+            code = code | 1 << at + len(names)
+    return code
+
+
+def rows_of_names(names):
+    """For each number of as many bits as there are names the names of its bits, ascending."""
+    rows = [()]
+    for name in names:
+        rows = rows + [(*row, name) for row in rows]
+    return rows
+
+
+def texts_of(names, codes):
+    """The texts of the standings with these codes."""
+    texts = [names_text(row) for row in rows_of_names(names)]
+    many = len(names)
+    mask = (1 << many) - 1
+    return [f"{texts[code & mask]} / {texts[code >> many]}" for code in codes]
+
+
+def bits_elsewhere(names, others, made):
+    """For each number of as many bits as there are names the bits that these names have among the others.
+
+    The made name has none.
+    """
+    found = [0]
+    for name in names:
+        bit = 1 << others.index(name) if name in others and name != made else 0
+        found = found + [bits | bit for bits in found]
     return found
 
 
-def behind_line(line, standing, slots):
-    """The standing behind a line, or None if the line cannot be done."""
-    held, stored = standing
-    if not all([name in held for name in line.uses]):
-        return None
+def codes_behind(line, codes, names, later, slots):
+    """For each code the one behind the line, of the names that are needed later, or None if it cannot be done."""
+    many = len(names)
     made = line.makes
-    if made is None:
-        return standing
-    if made in held:
-        return held, without_name(stored, made)
-    if len(held) == slots:
-        return None
-    return with_name(held, made), without_name(stored, made)
+    counts = bit_counts(many)
+    used = code_of(names, line.uses, ())
+    old = code_of(names, (made,), ())
+    new = code_of(later, (made,), ())
+    bits = bits_elsewhere(names, later, made)
+    shift = len(later)
+    to_held = [None] * len(bits)
+    for held, there in enumerate(bits):
+        # A made value wants a slot, if its name has none.
+        if held & used == used and (made is None or held & old or counts[held] < slots):
+            to_held[held] = there | new
+    mask = (1 << many) - 1
+    return [None if to_held[code & mask] is None else to_held[code & mask] | bits[code >> many] << shift
+            for code in codes]

@@ -28,7 +28,7 @@ def table_to_go(task, j):
 
 def by_texts(roads, numbers):
     """The numbers of the standings at the head of a round, by the texts of these."""
-    return dict(zip(roads.head().texts, numbers))
+    return dict(zip(roads.head().texts(), numbers))
 
 
 def turn(task, most=USUAL_MOST):

@@ -4,7 +4,7 @@ from leastcode.errors import BadSlots, NoRoom, TooMany
 from leastcode.kinds import is_within
 from leastcode.needed import PARTS, lines_of, needed_anywhere
 from leastcode.prices import Prices
-from leastcode.standings import sound_standings
+from leastcode.standings import sound_codes
 from leastcode.works import line_room
 
 MOST_SLOTS = 4
@@ -23,7 +23,7 @@ def check_standings(work, slots):
     """Raise TooMany if there are too many sound standings at a place."""
     fixed = work.fixed
     for names in sorted(set(needed_anywhere(work))):
-        if len(sound_standings(names, fixed, slots)) > MOST_STANDINGS:
+        if len(sound_codes(names, fixed, slots)) > MOST_STANDINGS:
             raise TooMany(MOST_STANDINGS)
 
 

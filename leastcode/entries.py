@@ -1,6 +1,6 @@
 """Entries: how the numbers at places are had, by which moves, and from which standings or to which."""
 
-from leastcode.grounds import settle
+from leastcode.grounds import drop, settle
 from leastcode.roads import brought_back, carried, end_numbers, start_numbers
 
 
@@ -19,7 +19,7 @@ def entries_so_far(ground, numbers, texts):
     led = settle(numbers, ground.edges)
     # Names that are stored too much are left only behind all moves, so that each move can be done on the way.
     drops = ground.drops()
-    dropped = settle(numbers, drops)
+    dropped = drop(numbers, drops)
     found = {}
     for at, text in enumerate(ground.texts()):
         better, _ = walk(at, dropped, drops, [None] * len(drops))

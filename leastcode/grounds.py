@@ -75,12 +75,26 @@ class Ground:
 def settle(numbers, edges):
     """Lower the numbers along the edges as far as this goes; for each the index of the edge that did it, or None."""
     led = [None] * len(numbers)
-    lowered = True
-    while lowered:
-        lowered = False
-        for at, (start, end, price) in enumerate(edges):
-            if numbers[start] + price < numbers[end]:
-                numbers[end] = numbers[start] + price
-                led[end] = at
-                lowered = True
+    while lower(numbers, edges, led):
+        pass
+    return led
+
+
+def lower(numbers, edges, led):
+    """Go over the edges once, lower the numbers along them, and note which edges led to them; whether any did."""
+    lowered = False
+    for at, (start, end, price) in enumerate(edges):
+        number = numbers[start] + price
+        if number < numbers[end]:
+            numbers[end] = number
+            led[end] = at
+            lowered = True
+    return lowered
+
+
+def drop(numbers, drops):
+    """Lower the numbers along the edges of drops; for each the index of the edge that did it, or None."""
+    led = [None] * len(numbers)
+    # The edges are in the order of the names, so that each way of several drops is found at one go.
+    lower(numbers, drops, led)
     return led

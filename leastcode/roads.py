@@ -1,6 +1,6 @@
 """Roads: the places along some lines, and how numbers for the standings there follow from one another."""
 
-from leastcode.grounds import FAR, Ground, settle
+from leastcode.grounds import FAR, Ground, drop, settle
 from leastcode.needed import needed_at_head, needed_rows
 from leastcode.standings import code_of, codes_behind
 
@@ -102,7 +102,7 @@ def brought_back(numbers, leads):
 def settle_all(numbers, ground):
     """Lower the numbers by moves, and where a standing is had with a better one."""
     settle(numbers, ground.edges)
-    settle(numbers, ground.drops())
+    drop(numbers, ground.drops())
 
 
 def forward(road, numbers):

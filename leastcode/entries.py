@@ -31,7 +31,7 @@ def entries_so_far(ground, numbers, texts):
 def entries_to_go(ground, numbers, texts):
     """The table of entries, to go, of numbers that are settled by it; texts are those of the standings behind."""
     led = settle(numbers, ground.edges_back)
-    moves_back = ground.moves()[::-1]
+    moves_back = ground.moves_back()
     found = {}
     for at, text in enumerate(ground.texts()):
         spot, moves = walk(at, led, ground.edges_back, moves_back)

@@ -30,6 +30,7 @@ class Ground:
         # What is still to come is known behind a move first, so the last moves come first here.
         self.edges_back = [(end, start, price) for start, end, price in self.edges[::-1]]
         self._moves = None
+        self._moves_back = None
         self._texts = None
         self._drops = None
 
@@ -53,6 +54,12 @@ class Ground:
         if self._moves is None:
             self._moves = [text for text, edges in self._groups for _ in edges]
         return self._moves
+
+    def moves_back(self):
+        """The texts of the moves of the edges back."""
+        if self._moves_back is None:
+            self._moves_back = self.moves()[::-1]
+        return self._moves_back
 
     def texts(self):
         """The texts of the standings."""

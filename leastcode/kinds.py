@@ -59,6 +59,19 @@ def decimal(number):
     return "".join(blocks[::-1])
 
 
+def integer_of(word):
+    """The integer that a word of decimal digits tells, with a - ahead of them if it is below 0, or None."""
+    digits = word.removeprefix("-")
+    if not digits or not all([digit in DIGITS for digit in digits]):
+        return None
+    # Python refuses to read numbers of very many digits, so they are read block by block.
+    whole = int(digits[:len(digits) - len(digits) // BLOCK_DIGITS * BLOCK_DIGITS] or "0")
+    for at in range(len(digits) // BLOCK_DIGITS, 0, -1):
+        end = len(digits) - (at - 1) * BLOCK_DIGITS
+        whole = whole * BLOCK + int(digits[end - BLOCK_DIGITS:end])
+    return whole if digits == word else -whole
+
+
 def check_names(values):
     """Raise BadName with the first value that is no name, then Twice with the first name that stood before."""
     for value in values:

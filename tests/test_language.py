@@ -17,7 +17,7 @@ BUILTINS = """len range enumerate zip min max sum abs sorted reversed int str bo
     repr any all divmod map property classmethod ValueError TypeError AttributeError""".split()
 METHODS = """append clear copy count endswith extend find get index insert isalnum isalpha isdigit islower isspace
     isupper items join keys ljust lower lstrip partition pop remove replace reverse rfind rjust rpartition rsplit
-    rstrip setdefault split splitlines startswith strip update upper values zfill bit_length""".split()
+    rstrip setdefault split splitlines startswith strip update upper values zfill bit_length removeprefix""".split()
 UNCHANGING = "__eq__ __str__ __repr__ __len__ __getitem__ __pow__ __iter__".split()
 OPERATORS = """__init__ __eq__ __str__ __len__ __iter__ __pow__ __getitem__""".split()
 CHANGING = "append clear extend insert pop remove reverse setdefault update add discard sort".split()
@@ -257,8 +257,16 @@ class Names(unittest.TestCase):
         kinds = (str, int, list, dict, tuple, set, bytes)
         known = {method for kind in kinds for method in dir(kind)}
         for name, node in nodes(ast.Attribute):
-            if node.attr in known:
+            if node.attr in known and not ast.unparse(node).endswith(".__class__"):
                 self.assertIn(node.attr, METHODS, name)
+
+    def test_names_of_classes(self):
+        for name, node in nodes(ast.Attribute):
+            if node.attr.startswith("__") and node.attr != "__init__":
+                self.assertIn(node.attr, ("__class__", "__name__"), name)
+                self.assertEqual(node.attr == "__name__", isinstance(node.value, ast.Attribute), name)
+        for name, text in SOURCES.items():
+            self.assertEqual(text.count("__class__"), len(re.findall(r"\b\w+\.__class__\.__name__\b", text)), name)
 
     def test_double_underscores(self):
         for name, node in nodes(ast.FunctionDef):
@@ -301,7 +309,7 @@ class Classes(unittest.TestCase):
         for _, properties, _, plain in classes():
             there |= properties | plain
         for name, node in nodes(ast.Attribute):
-            if node.attr != "setter":
+            if node.attr not in ("setter", "__class__", "__name__"):
                 self.assertIn(node.attr, there, name)
 
     def test_no_method_is_read_off_a_class(self):

@@ -1,5 +1,8 @@
 """Looks at papers as the document says of leastcode/looker.py, and fails where one does not show its row."""
 
+import unittest
+
+from leastcode.rows import Row
 from plain import all_moves, as_good, done, head_names, later_lines, moved, needed_of, sound_at, standing_of, text_of
 
 
@@ -19,6 +22,7 @@ class Place:
             test.assertIs(type(entry), tuple)
             test.assertEqual(len(entry), 3)
             test.assertIs(type(entry[0]), int)
+        self.texts = [text_of(key) for key in self.keys]
         self.entries = {key: table[text_of(key)] for key in self.keys}
         self.numbers = {key: self.entries[key][0] for key in self.keys}
 
@@ -65,6 +69,7 @@ def check_forward(test, task, place, line=None, ahead=None):
             test.assertIsNone(before)
             standing, start = begin, 0
         else:
+            test.assertIn(before, ahead.texts)
             standing = standing_of(before)
             start = ahead.numbers[standing]
             standing = done(line, standing, task.slots)
@@ -97,6 +102,7 @@ def check_to_go(test, task, place, line=None, behind=None):
             continue
         standing = done(line, standing, task.slots)
         test.assertIsNotNone(standing)
+        test.assertIn(after, behind.texts)
         test.assertTrue(as_good(standing, standing_of(after)))
         test.assertEqual(number, whole + behind.numbers[standing_of(after)])
         to = done(line, key, task.slots)
@@ -144,6 +150,7 @@ def check_last(test, task, last):
 def check_paper(test, task, row, paper):
     """Fail unless the paper shows that the row is that of the least prices."""
     work = task.work
+    test.assertIs(type(row), Row)
     test.assertIs(type(paper), tuple)
     turn, none, before, rounds, last = paper
     start, gap, rise = turn
@@ -167,3 +174,12 @@ def check_paper(test, task, row, paper):
     test.assertLessEqual(row.start, start + 1)
     test.assertEqual(gap % row.period, 0)
     test.assertEqual(rise, gap // row.period * row.step)
+
+
+def is_shown(task, row, paper):
+    """Whether the paper shows that the row is that of the least prices."""
+    try:
+        check_paper(unittest.TestCase(), task, row, paper)
+    except (AssertionError, TypeError, ValueError, AttributeError, IndexError, KeyError):
+        return False
+    return True

@@ -6,12 +6,6 @@ def names_text(names):
     return " ".join(names) if names else "-"
 
 
-def standing_text(standing):
-    """The text of a standing, a pair of the names in slots and of the stored ones."""
-    held, stored = standing
-    return f"{names_text(held)} / {names_text(stored)}"
-
-
 def bit_counts(many):
     """For each number of so many bits how many of them are set."""
     counts = [0]

@@ -38,7 +38,7 @@ def check_raises(test, error, call, *values, **named):
 def check_same(test, found, wanted):
     """Fail unless two values are equal and of the same kinds throughout."""
     if not alike(found, wanted):
-        test.fail(f"{found!r} instead of {wanted!r}")
+        test.fail(f"{found!r:.500} instead of {wanted!r:.500}")
 
 
 def check_session(test, text):

@@ -10,18 +10,32 @@ from leastcode.tables import row, turn_to_go
 from leastcode.tasks import Task
 from leastcode.worktexts import read_work, show_work
 
-# For each first word how many digits each further word has at most, and whether more of them may follow.
-FORMS = {
-    "work": ((), True), "slots": ((1,), False), "prices": ((1, 1), False), "show": ((), False), "row": ((), False),
-    "turn": ((), False), "price": ((30,), False), "tell": ((30,), True), "run": ((30,), True),
-}
 MOST_DIGITS = 30
+
+# For each first word but work how many digits each further word has at most, and whether more of them may follow.
+FORMS = {
+    "slots": ((1,), False), "prices": ((1, 1), False), "show": ((), False), "row": ((), False), "turn": ((), False),
+    "price": ((30,), False), "tell": ((30,), True), "run": ((30,), True),
+}
+
+
+def check_line(line):
+    """Raise BadLine with the first word that cannot stand, or with the number of the words if one is missing."""
+    if not isinstance(line, str):
+        raise BadLine(0)
+    words = line.split(" ")
+    if words[0] == "work":
+        # What stands behind the first space is a text, whatever its words are.
+        if len(words) == 1:
+            raise BadLine(1)
+    elif words[0] in FORMS:
+        check_words(words)
+    else:
+        raise BadLine(0)
 
 
 def check_words(words):
-    """Raise BadLine with the first word that cannot stand, or with the number of the words if one is missing."""
-    if words[0] not in FORMS:
-        raise BadLine(0)
+    """Raise BadLine as check_line for the words of a line with numbers behind the first word."""
     digits, more = FORMS[words[0]]
     for at, word in enumerate(words[1:]):
         if at >= len(digits) and not more:
@@ -73,19 +87,14 @@ class Desk:
 
     def say(self, line):
         """The answer to a line."""
-        if not isinstance(line, str):
-            raise BadLine(0)
-        word, space, text = line.partition(" ")
-        if word != "work":
-            check_words(line.split(" "))
-        elif not space:
-            raise BadLine(1)
+        check_line(line)
+        word, _, text = line.partition(" ")
         if word != "work" and self.task is None:
             return "no work"
         try:
             if word == "work":
                 return self.take_work(text)
-            return self.answer(word, [int(digits) for digits in line.split(" ")[1:]])
+            return self.answer(word, [int(digits) for digits in text.split(" ") if digits])
         except LeastError as error:
             return f"refused {error.__class__.__name__}"
 

@@ -22,7 +22,7 @@ JOB = "modulus 1000 ; given a b ; results a ; loop ; tell a ; c = a + b ; a = b 
 FLAT = "modulus 97 ; given x y ; fixed k 5 3 ; results k x ; loop ; x = 2 * x + k ; end ; tell y x"
 BARE = "modulus 2 ; loop ; end"
 HUGE = 10 ** 30 - 1
-LATE = (JOB, 3, (1, 1))
+LATE = "modulus 97 ; given a b c d e ; loop ; tell a ; tell b ; tell c ; tell d ; tell e ; end"
 WORDS = ["slots 3", "prices 1 2", "show", "row", "turn", "price 4", "tell 3 0 1", "run 3 0 1"]
 
 
@@ -260,15 +260,12 @@ class Refused(unittest.TestCase):
             self.refused(desk_with(JOB), f"{word} 2001 0 1000", "BadInput")
             self.refused(desk_with(JOB), f"{word} 2001 0", "BadInput")
 
-    def test_no_turn(self):
-        text, slots, prices = LATE
-        desk = desk_with(text)
-        self.assertEqual(desk.run(f"slots {slots}", "prices {} {}".format(*prices)), ["ok", "ok"])
-        check_raises(self, TooMany(120), turn_to_go, desk.task)
-        check_raises(self, TooMany(120), code_for, desk.task)
-        many = len(desk.task.work.given)
-        good, bad = " 1" * many, " 999999" * many
-        self.refused(desk, "turn", "TooMany")
+    def test_no_code(self):
+        # The turn to go comes so late that there are too many numbers for a code.
+        desk = desk_with(LATE)
+        self.assertEqual(desk.run("slots 4", "prices 1 9", "turn", "show"), ["ok", "ok", "110 4 5", LATE])
+        check_raises(self, TooMany(3000), code_for, desk.task)
+        good, bad = " 1 2 3 4 5", " 1 2 3 4 97"
         # Too few and too many values come ahead of all else, other wrong ones behind what code_for raises.
         self.refused(desk, "run 1" + good, "TooMany")
         self.refused(desk, "run 1" + bad, "TooMany")
@@ -276,8 +273,12 @@ class Refused(unittest.TestCase):
         self.refused(desk, "run 1" + good + " 1", "BadInput")
         self.refused(desk, "run 1" + good[2:], "BadInput")
         self.refused(desk, "tell 1" + bad, "BadInput")
-        self.assertEqual(desk.say("tell 0" + good), "- / -")
-        self.assertEqual(desk.say("show"), text)
+        self.refused(desk, "tell 2001" + bad, "BadInput")
+        self.refused(desk, "tell 2001" + good, "TooMany")
+        self.assertEqual(desk.say("tell 1" + good), "1 2 3 4 5 / -")
+        self.assertEqual(desk.run("prices 1 1", "run 1" + bad), ["ok", "refused BadInput"])
+        self.refused(desk, "run 2001" + bad, "BadInput")
+        self.refused(desk, "run 2001" + good, "TooMany")
 
 
 class Runs(unittest.TestCase):

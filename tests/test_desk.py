@@ -276,7 +276,7 @@ class Refused(unittest.TestCase):
         self.refused(desk, "tell 2001" + bad, "BadInput")
         self.refused(desk, "tell 2001" + good, "TooMany")
         self.assertEqual(desk.say("tell 1" + good), "1 2 3 4 5 / -")
-        self.assertEqual(desk.run("prices 1 1", "run 1" + bad), ["ok", "refused BadInput"])
+        self.assertEqual(desk.run("slots 1", "run 1" + bad), ["ok", "refused BadInput"])
         self.refused(desk, "run 2001" + bad, "BadInput")
         self.refused(desk, "run 2001" + good, "TooMany")
 

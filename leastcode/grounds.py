@@ -5,6 +5,9 @@ from leastcode.standings import sound_codes, texts_of
 # More than all numbers of tables: no way to a standing has been found yet.
 FAR = 10 ** 18
 
+# In this order most ways of several moves are found at one go over the edges.
+KINDS = ("store", "forget", "load", "again")
+
 
 class Ground:
     """The sound standings at the places where these names are needed, by index, and the moves between them.
@@ -18,14 +21,13 @@ class Ground:
         self.wanted = wanted
         self.codes = sound_codes(wanted, fixed, task.slots)
         self.spots = {code: at for at, code in enumerate(self.codes)}
-        # In this order most ways of several moves are found at one go over the edges.
-        groups = {"store": [], "forget": [], "load": [], "again": []}
+        groups = {kind: [] for kind in KINDS}
         for at, name in enumerate(wanted):
             again = fixed[name][1] if name in fixed else None
             found = self._edges_of(1 << at, task.prices.load_of(name), task.prices.store, again)
-            for kind in groups:
+            for kind in KINDS:
                 groups[kind].append((f"{kind} {name}", found[kind]))
-        self._groups = [group for kind in groups for group in groups[kind]]
+        self._groups = [group for kind in KINDS for group in groups[kind]]
         self.edges = [edge for _, edges in self._groups for edge in edges]
         # What is still to come is known behind a move first, so the last moves come first here.
         self.edges_back = [(end, start, price) for start, end, price in self.edges[::-1]]

@@ -47,6 +47,8 @@ def is_decimal(word, most):
 
 def decimal(number):
     """An integer in decimal digits, with a - if it is below 0."""
+    if -BLOCK < number < BLOCK:
+        return str(number)
     # Python refuses to write numbers of very many digits, so they are written block by block.
     left = abs(number)
     blocks = []
@@ -62,13 +64,13 @@ def decimal(number):
 def integer_of(word):
     """The integer that a word of decimal digits tells, with a - ahead of them if it is below 0, or None."""
     digits = word.removeprefix("-")
-    if not digits or not all([digit in DIGITS for digit in digits]):
+    if not digits.isascii() or not digits.isdigit():
         return None
     # Python refuses to read numbers of very many digits, so they are read block by block.
-    whole = int(digits[:len(digits) - len(digits) // BLOCK_DIGITS * BLOCK_DIGITS] or "0")
-    for at in range(len(digits) // BLOCK_DIGITS, 0, -1):
-        end = len(digits) - (at - 1) * BLOCK_DIGITS
-        whole = whole * BLOCK + int(digits[end - BLOCK_DIGITS:end])
+    first = len(digits) % BLOCK_DIGITS
+    whole = int(digits[:first] or "0")
+    for at in range(first, len(digits), BLOCK_DIGITS):
+        whole = whole * BLOCK + int(digits[at:at + BLOCK_DIGITS])
     return whole if digits == word else -whole
 
 

@@ -42,7 +42,10 @@ def lines_of(work, part):
 
 def needed_ahead(line, later):
     """The names that are needed ahead of a line, if these ones are needed behind it."""
-    return tuple(sorted(set([*line.uses, *[name for name in later if name != line.makes]])))
+    made = line.makes
+    kept = [name for name in later if name != made]
+    new = [name for name in line.uses if name not in kept]
+    return tuple(sorted(kept + new)) if new else tuple(kept)
 
 
 def needed_rows(lines, later):

@@ -18,7 +18,9 @@ class Roads:
 
     def __init__(self, task):
         self.task = task
+        self.at_head = needed_at_head(task.work)
         self._made = {}
+        self._known = {}
 
     def along(self, lines, later):
         """The road along some lines, behind which these names are needed."""
@@ -33,29 +35,33 @@ class Roads:
             self._made[names] = Ground(self.task, names)
         return self._made[names]
 
+    def _road(self, kind, lines, later):
+        """The road of this kind, which is made once."""
+        if kind not in self._known:
+            self._known[kind] = self.along(lines, later)
+        return self._known[kind]
+
     def head(self):
         """The ground at the head of a round, with this round to come."""
-        return self._ground(needed_at_head(self.task.work))
+        return self._ground(self.at_head)
 
     def without_rounds(self):
         """The road of the straight form without rounds."""
         work = self.task.work
-        return self.along(work.ahead + work.behind, work.results)
+        return self._road("none", work.ahead + work.behind, work.results)
 
     def before_rounds(self):
         """The road along the lines ahead, with a round to come."""
-        work = self.task.work
-        return self.along(work.ahead, needed_at_head(work))
+        return self._road("before", self.task.work.ahead, self.at_head)
 
     def through_round(self):
         """The road through a round that another one follows."""
-        work = self.task.work
-        return self.along(work.loop, needed_at_head(work))
+        return self._road("round", self.task.work.loop, self.at_head)
 
     def through_last(self):
         """The road through the last round and along the lines behind."""
         work = self.task.work
-        return self.along(work.loop + work.behind, work.results)
+        return self._road("last", work.loop + work.behind, work.results)
 
 
 def line_leads(line, ground, behind, slots):

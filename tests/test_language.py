@@ -17,7 +17,7 @@ BUILTINS = """len range enumerate zip min max sum abs sorted reversed int str bo
     repr any all divmod map property classmethod ValueError TypeError AttributeError""".split()
 METHODS = """append clear copy count endswith extend find get index insert isalnum isalpha isdigit islower isspace
     isupper items join keys ljust lower lstrip partition pop remove replace reverse rfind rjust rpartition rsplit
-    rstrip setdefault split splitlines startswith strip update upper values zfill bit_length removeprefix""".split()
+    rstrip setdefault split splitlines startswith strip update upper values zfill bit_length removeprefix isascii""".split()
 UNCHANGING = "__eq__ __str__ __repr__ __len__ __getitem__ __pow__ __iter__".split()
 OPERATORS = """__init__ __eq__ __str__ __len__ __iter__ __pow__ __getitem__""".split()
 CHANGING = "append clear extend insert pop remove reverse setdefault update add discard sort".split()

@@ -402,6 +402,24 @@ class Conditions(Said):
         self.check(self.task, self.row, self.leaf, True)
         self.assertEqual(row(self.task), self.row)
 
+    def test_rows_and_turns(self):
+        for numbers, period, step, wanted in (
+                ([0, 3], 1, 0, True), ([0, 3, 3, 3, 3, 3], 2, 0, True),
+                # The number without rounds, with one, with the last one that is looked at.
+                ([1, 3], 1, 0, False), ([0, 4, 3], 1, 0, False), ([0, 3, 3, 4], 1, 0, False), ([0, 3, 2], 1, 0, False),
+                # It parts from the right row behind all of these: by its start, and by its period alone.
+                ([0, 3, 3, 3, 9], 1, 0, False), ([0, 3, 3, 3], 1, 1, False), ([0, 3, 3, 3, 5], 3, 2, False)):
+            self.check(self.task, Row(numbers, period, step), self.leaf, wanted)
+        told = Row([0, 3, 3, 3, 5], 3, 2)
+        self.assertEqual((told.start, told.period, told.step), (1, 3, 2))
+        for turning in ((0, 2, 0), (0, 2, 1), (1, 1, 1), (2, 0, 0), (0, 1, 0), (1, 2, 0)):
+            self.check(self.task, self.row, (turning, *self.leaf[1:]), False)
+        again = self.leaf[3][1]
+        self.check(self.task, self.row, ((1, 2, 0), *self.leaf[1:3], self.leaf[3] + [again], self.leaf[4]), True)
+        self.check(self.task, self.row, ((2, 1, 0), *self.leaf[1:3], self.leaf[3] + [again], self.leaf[4]), True)
+        self.check(self.task, self.row, ((0, 3, 0), *self.leaf[1:3], self.leaf[3] + [again], self.leaf[4]), False)
+        self.check(self.task, self.row, ((0, 1, 0), *self.leaf[1:3], self.leaf[3][:1], self.leaf[4]), False)
+
     def test_entries_that_are_met_otherwise(self):
         for part, places, key, entry in (
                 (3, (0, 0), "- / a", (3, "a / a", ("store a", "forget a"))), (3, (1, 0), "a / a", (3, "a / -", ("store a",))),

@@ -152,6 +152,8 @@ class Parts(unittest.TestCase):
         blocks = small_parts()["blocks"]
         for key in ((0, 3), (0, 0), (-1, 1), (0,), (0, 1, 1), 0, None, "01", ("0", 1), (0, None), ("a", "b")):
             told_wrong(self, "blocks", blocks={**blocks, key: ((), 1)})
+        told_wrong(self, "blocks", blocks={**blocks, (-1, 1): ((), None)})
+        told_wrong(self, "blocks", blocks={**blocks, (-1, 2): ((), 1)})
         for key, own in (((True, 1), (1, 1)), ((False, 2), (0, 2)), ((0, True), (0, 1))):
             told_wrong(self, "blocks", blocks={key if old == own else old: block for old, block in blocks.items()})
         for key, (instructions, label) in blocks.items():
@@ -225,8 +227,8 @@ class Parts(unittest.TestCase):
             for other in ((9, 1), None, "a", (0,), 0, (*key, 0), (key,)):
                 told_wrong(self, "costs", costs={**less, other: 1})
                 told_wrong(self, "costs", costs={**costs, other: 1})
-        told_wrong(self, "costs", costs={**{key: cost for key, cost in costs.items() if key != (1, 1)}, (True, 1): 1})
-        told_wrong(self, "costs", costs={**{key: cost for key, cost in costs.items() if key != (0, 2)}, (False, 2): 1})
+        for key, own in (((True, 1), (1, 1)), ((False, 2), (0, 2)), ((0, True), (0, 1))):
+            told_wrong(self, "costs", costs={key if old == own else old: cost for old, cost in costs.items()})
 
     def test_values_of_many_parts(self):
         for part in PARAMETERS:

@@ -178,7 +178,7 @@ class Wrong(unittest.TestCase):
     def test_each_word_wrong_or_missing(self):
         lines = {
             "slots": [1], "prices": [1], "prices 1": [2], "price": [1], "tell": [1], "run": [1], "work": [1],
-            "show 1": [1], "show ": [1], "row ": [1], "row row": [1], "turn 0": [1], "turn  ": [1], "show  1": [1],
+            "show 1": [1], "show ": [1], "row ": [1], "row row": [1], "row 1": [1], "turn 0": [1], "turn  ": [1], "show  1": [1],
             "slots 3 ": [2], "slots 3 4": [2], "prices 1 2 3": [3], "prices 1 2 ": [3], "price 1 2": [2], "price 1 ": [2],
             "slots  3": [1], "prices  1": [1], "prices 1  2": [2], "tell  1": [1], "tell 1  2": [2], "run 1 2 ": [3],
         }
